@@ -79,9 +79,13 @@ func (r *bitReader) back(width int) (int, error) {
 	return r.number(r.at, width), nil
 }
 
+func (r *bitReader) left() int {
+	return r.from.N - r.at
+}
+
 // some gets as many bits as there are, up to maxWidth, and tells how many these are.
 func (r *bitReader) some() (int, int, error) {
-	width := min(r.from.N-r.at, maxWidth)
+	width := min(r.left(), maxWidth)
 	if width <= 0 {
 		return 0, 0, errOver
 	}
@@ -110,10 +114,13 @@ func (w *bitWriter) put(n int, width int) error {
 	return nil
 }
 
-// pour goes on until one of both streams fails: that r is over means that all its bits are put.
+// pour puts all that r has left: that r is over is what it waits for.
 func (w *bitWriter) pour(r *bitReader) error {
 	for {
 		n, width, err := r.some()
+		if errors.Is(err, errOver) {
+			return nil
+		}
 		if err != nil {
 			return err
 		}
@@ -121,6 +128,20 @@ func (w *bitWriter) pour(r *bitReader) error {
 			return err
 		}
 	}
+}
+
+// take gets n bits as bits of their own.
+func (r *bitReader) take(n int) (Bits, error) {
+	if n < 0 || n > r.left() {
+		return Bits{}, errOver
+	}
+	w := newBitWriter(Bits{}, MaxBits)
+	part := &bitReader{from: Bits{B: r.from.B, N: r.at + n}, at: r.at}
+	if err := w.pour(part); err != nil {
+		return Bits{}, err
+	}
+	r.at += n
+	return w.to, nil
 }
 
 func BitsOk(x Bits) bool {
@@ -171,7 +192,7 @@ func BitsJoin(a Bits, b Bits) (Bits, bool) {
 		return Bits{}, false
 	}
 	w := newBitWriter(a, MaxBits)
-	if err := w.pour(&bitReader{from: b}); !errors.Is(err, errOver) {
+	if err := w.pour(&bitReader{from: b}); err != nil {
 		return Bits{}, false
 	}
 	return w.to, true
