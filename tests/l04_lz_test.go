@@ -316,6 +316,20 @@ func TestLongestByHand(t *testing.T) {
 	}
 }
 
+// Letters that are alike in part alone are no piece: all three of them count.
+func TestLettersThatAreAlikeInPart(t *testing.T) {
+	b := []byte{1, 2, 1, 3, 9}
+	wantPiece(t, b, 2, 0, 0)
+	wantSeqs(t, b, []impl.Seq{{Lits: b}})
+	eachList(6, []int{0, 1, 2}, func(l []int) {
+		text := bytesOf(l, 0)
+		for at := range text {
+			longestHolds(t, text, at)
+		}
+		wantSeqs(t, text, slowFind(text))
+	})
+}
+
 func TestLongestAtTheEdges(t *testing.T) {
 	most := bytes.Repeat([]byte("a"), impl.BlockBytes)
 	wantPiece(t, most, 0, 0, 0)
