@@ -405,6 +405,13 @@ func TestPackBytesByHand(t *testing.T) {
 	}
 }
 
+// spoiltAt has other values from a place on.
+func spoiltAt(from []byte, at int, values ...byte) []byte {
+	b := bytes.Clone(from)
+	copy(b[at:], values)
+	return b
+}
+
 // readIsItsPack tells whether a sector is read as a pack, as the model has it; what is read has just this sector.
 func readIsItsPack(t *testing.T, name string, b []byte) bool {
 	t.Helper()
@@ -441,24 +448,25 @@ func TestWhateverIsReadIsJustIts(t *testing.T) {
 	}
 }
 
-// The bytes that tell of all others have each value, alone and two at a time.
-func TestHeadsOfEachValue(t *testing.T) {
-	for _, p := range []impl.Pack{packOf(0xEA50, 0xEA60), sized(0), sized(2, 0, 2), crowded(16), sized(65, 65, 65, 47)} {
-		whole := slowPackBytes(p)
-		for at := range 12 {
-			for v := range 256 {
-				b := bytes.Clone(whole)
-				b[at] = byte(v)
-				readIsItsPack(t, fmt.Sprintf("byte %d is %d", at, v), b)
-				for _, other := range []int{5, 7} {
-					for _, w := range []byte{0, 1, 2} {
-						c := bytes.Clone(b)
-						c[other] = w
-						readIsItsPack(t, fmt.Sprintf("byte %d is %d, %d is %d", at, v, other, w), c)
-					}
+// eachHead calls do with all sectors of which one of the first bytes has another value, alone, and with some values at some others.
+func eachHead(whole []byte, others []int, values []byte, do func(name string, b []byte)) {
+	for at := range 12 {
+		for v := range 256 {
+			b := spoiltAt(whole, at, byte(v))
+			do(fmt.Sprintf("byte %d is %d", at, v), b)
+			for _, other := range others {
+				for _, w := range values {
+					do(fmt.Sprintf("byte %d is %d, %d is %d", at, v, other, w), spoiltAt(b, other, w))
 				}
 			}
 		}
+	}
+}
+
+// The bytes that tell of all others have each value, alone and two at a time.
+func TestHeadsOfEachValue(t *testing.T) {
+	for _, p := range []impl.Pack{packOf(0xEA50, 0xEA60), sized(0), sized(2, 0, 2), crowded(16), sized(65, 65, 65, 47)} {
+		eachHead(slowPackBytes(p), []int{5, 7}, []byte{0, 1, 2}, func(name string, b []byte) { readIsItsPack(t, name, b) })
 	}
 }
 
@@ -488,11 +496,6 @@ func TestPackReadOfAnySector(t *testing.T) {
 func refusedSectors() map[string][]byte {
 	whole := slowPackBytes(sized(2, 47, 0))
 	full := slowPackBytes(sized(65, 65, 65, 47))
-	spoilt := func(from []byte, at int, values ...byte) []byte {
-		b := bytes.Clone(from)
-		copy(b[at:], values)
-		return b
-	}
 	all := map[string][]byte{
 		"nothing":                           nil,
 		"an empty list":                     {},
@@ -505,15 +508,15 @@ func refusedSectors() map[string][]byte {
 		"a full one, a byte too short":      full[:255],
 		"a full one, a nought too long":     append(bytes.Clone(full), 0),
 		"noughts":                           make([]byte, impl.RawBytes),
-		"another letter":                    spoilt(whole, 0, 'p'),
-		"the letter ahead":                  spoilt(whole, 0, 'O'),
-		"the letter of a map":               spoilt(whole, 0, 'M'),
-		"an Epoch too great":                spoilt(whole, 1, 0xEA, 0x61),
-		"the greatest Epoch of two bytes":   spoilt(whole, 1, 255, 255),
-		"an Order too great":                spoilt(whole, 3, 0xEA, 0x61),
-		"the greatest Order of two bytes":   spoilt(whole, 3, 255, 255),
-		"an Item less, its Blob behind":     spoilt(slowPackBytes(sized(2)), 5, 0),
-		"an empty Item less, its Addr left": spoilt(slowPackBytes(crowded(1)), 5, 0, 0, 0),
+		"another letter":                    spoiltAt(whole, 0, 'p'),
+		"the letter ahead":                  spoiltAt(whole, 0, 'O'),
+		"the letter of a map":               spoiltAt(whole, 0, 'M'),
+		"an Epoch too great":                spoiltAt(whole, 1, 0xEA, 0x61),
+		"the greatest Epoch of two bytes":   spoiltAt(whole, 1, 255, 255),
+		"an Order too great":                spoiltAt(whole, 3, 0xEA, 0x61),
+		"the greatest Order of two bytes":   spoiltAt(whole, 3, 255, 255),
+		"an Item less, its Blob behind":     spoiltAt(slowPackBytes(sized(2)), 5, 0),
+		"an empty Item less, its Addr left": spoiltAt(slowPackBytes(crowded(1)), 5, 0, 0, 0),
 		"256 bytes of P":                    bytes.Repeat([]byte("P"), impl.RawBytes),
 		"17 Items of no bytes":              sectorBy([]byte("P\x00\x00\x00\x00\x11")),
 		"255 Items":                         sectorBy([]byte("P\x00\x00\x00\x00\xff")),
@@ -527,13 +530,13 @@ func refusedSectors() map[string][]byte {
 		"Addr 255":                          sectorBy([]byte("P\x00\x00\x00\x00\x01\xff\x00")),
 		"one Addr twice":                    sectorBy([]byte("P\x00\x00\x00\x00\x02\x03\x00\x03\x00")),
 		"one Addr twice, with a Blob each":  sectorBy([]byte("P\x00\x00\x00\x00\x02\x03\x02\x03\x02\x01\x07\x01\x08")),
-		"a full one, the last too long":     spoilt(full, 13, 48),
-		"a full one, the last too short":    spoilt(full, 13, 46),
-		"a full one, an Item less":          spoilt(full, 5, 3),
-		"a full one, an Item more":          spoilt(full, 5, 5),
+		"a full one, the last too long":     spoiltAt(full, 13, 48),
+		"a full one, the last too short":    spoiltAt(full, 13, 46),
+		"a full one, an Item less":          spoiltAt(full, 5, 3),
+		"a full one, an Item more":          spoiltAt(full, 5, 5),
 	}
 	for at := 61; at < impl.RawBytes; at++ {
-		all[fmt.Sprint("something in the rest at ", at)] = spoilt(whole, at, 1)
+		all[fmt.Sprint("something in the rest at ", at)] = spoiltAt(whole, at, 1)
 	}
 	for name, blob := range wrongBlobs() {
 		if len(blob) <= 242 {
