@@ -25,8 +25,12 @@ func sameMap(a impl.Map, b impl.Map) bool {
 
 // scattered has n places in some sectors; a few are nowhere, and no two of the others are alike.
 func scattered(n int, seed uint64) impl.Map {
+	return scatteredIn(n, impl.MaxRaw, seed)
+}
+
+func scatteredIn(n int, raws int, seed uint64) impl.Map {
 	var m impl.Map
-	sectors, indexes := picked(n, impl.MaxRaw-1, seed), picked(n, impl.MaxAddr-1, seed+77)
+	sectors, indexes := picked(n, raws-1, seed), picked(n, impl.MaxAddr-1, seed+77)
 	for i := range n {
 		w := in(sectors[i], indexes[i])
 		if w.Sector < 2 || slices.Contains(m.L, w) {
