@@ -86,10 +86,14 @@ func slowReadOf(d impl.Disk, addr int) ([]byte, int) {
 
 // slowPut takes what is right, and an address that is there.
 func slowPut(d impl.Disk, x impl.Item) (impl.Disk, int) {
+	return slowPutKeeping(d, x, 1)
+}
+
+func slowPutKeeping(d impl.Disk, x impl.Item, back int) (impl.Disk, int) {
 	c := clonedDisk(d)
 	more, room := slowAdd(d.Open, x)
 	if !room {
-		sealed, ok := slowSealOrSave(d, 1)
+		sealed, ok := slowSealOrSave(d, back)
 		if !ok {
 			return d, impl.DkSpace
 		}
@@ -243,13 +247,11 @@ func readHolds(t *testing.T, name string, d impl.Disk) map[int]int {
 	return codes
 }
 
-// soundBut holds what promise 10 asks of a sound disk, but that it can be unmounted.
-func soundBut(t *testing.T, name string, d impl.Disk, want [][]byte) {
-	t.Helper()
-	wantAll(t, name, d, want)
+// unsound tells what promise 10 asks of a sound disk and this one has not, but that no address is broken, and that it can be unmounted; nothing, if it has all of that.
+func unsound(d impl.Disk) string {
 	epoch, m, ok := slowNewest(d.Raw.Sectors[0], d.Raw.Sectors[1])
 	if !ok || epoch != d.Epoch || !sameMap(m, d.Saved) {
-		t.Fatalf("%s: the newest saved map is %d, %v, of %s", name, epoch, m, diskText(d))
+		return fmt.Sprintf("the newest saved map is %d, %v", epoch, m)
 	}
 	read := slowSettled(d.Raw).Sectors
 	for sector := 2; sector < len(read); sector++ {
@@ -258,9 +260,19 @@ func soundBut(t *testing.T, name string, d impl.Disk, want [][]byte) {
 		}
 		for _, b := range [][]byte{d.Raw.Sectors[sector], read[sector]} {
 			if p, ok := slowPackRead(b); ok && p.Epoch >= d.Epoch {
-				t.Fatalf("%s: the sector %d is a pack of %d, and not in Chain, of %s", name, sector, p.Epoch, diskText(d))
+				return fmt.Sprintf("the sector %d is a pack of %d, and not in Chain", sector, p.Epoch)
 			}
 		}
+	}
+	return ""
+}
+
+// soundBut holds what promise 10 asks of a sound disk, but that it can be unmounted.
+func soundBut(t *testing.T, name string, d impl.Disk, want [][]byte) {
+	t.Helper()
+	wantAll(t, name, d, want)
+	if why := unsound(d); why != "" {
+		t.Fatalf("%s: %s, of %s", name, why, diskText(d))
 	}
 }
 
