@@ -36,6 +36,9 @@ func hasSize(addr int, size int) impl.Item {
 }
 
 func slowEncode(block []byte) ([]byte, bool) {
+	if len(block) != 64 {
+		return nil, false
+	}
 	var best []byte
 	for mode := impl.MdRaw; mode <= impl.MdFse; mode++ {
 		blob, ok := slowPacked(block, mode)
@@ -43,7 +46,7 @@ func slowEncode(block []byte) ([]byte, bool) {
 			best = blob
 		}
 	}
-	return best, len(block) == 64
+	return best, true
 }
 
 // slowHas takes what is right, and tells the Blob of an address; false, where it is broken.
@@ -1190,13 +1193,19 @@ func (l *life) crash(t *testing.T, name string, keep []bool) *life {
 	if code != impl.DkWell {
 		t.Fatalf("%s: Mount tells %d, behind %s", name, code, diskText(l.disk))
 	}
+	return l.found(t, fmt.Sprintf("%s, keeping %v", name, keep), d)
+}
+
+// found is the life that goes on with what was mounted behind a crash.
+func (l *life) found(t *testing.T, name string, d impl.Disk) *life {
+	t.Helper()
 	all, ok := impl.All(d)
 	if !ok || len(all) != len(l.now) {
 		t.Fatalf("%s: All is %x, %v, behind %s", name, all, ok, diskText(l.disk))
 	}
 	for addr, block := range all {
 		if !slices.ContainsFunc(l.may[addr], func(one []byte) bool { return bytes.Equal(one, block) }) {
-			t.Fatalf("%s, keeping %v: %d has %x behind a crash of %s", name, keep, addr, block, diskText(l.disk))
+			t.Fatalf("%s: %d has %x behind a crash of %s", name, addr, block, diskText(l.disk))
 		}
 	}
 	soundBut(t, name+", behind a crash", d, all)
@@ -1432,11 +1441,12 @@ func TestListsOfBlocksComeApart(t *testing.T) {
 	listsAreApart(t, "All", impl.Raw{Sectors: l})
 }
 
-// Nothing is kept: answers of one call are not those of another one, behind a refusal, too.
-func TestBlocksKeepNothing(t *testing.T) {
+// keepNothing tells where answers of one call are those of another one, behind a refusal, too.
+func keepNothing(t *testing.T, all map[string]func(d impl.Disk) impl.Disk, disks ...impl.Disk) {
+	t.Helper()
 	for range 2 {
-		for _, d := range []impl.Disk{full(), packed(has(1, 11), has(4, 14), has(0, 10))} {
-			for name, do := range blockDoes() {
+		for _, d := range disks {
+			for name, do := range all {
 				want := clonedDisk(do(d))
 				spoilDisk(do(d))
 				do(impl.Disk{})
@@ -1447,6 +1457,10 @@ func TestBlocksKeepNothing(t *testing.T) {
 			}
 		}
 	}
+}
+
+func TestBlocksKeepNothing(t *testing.T) {
+	keepNothing(t, blockDoes(), full(), packed(has(1, 11), has(4, 14), has(0, 10)))
 }
 
 // What is refused changes nothing: behind each refusal all is read as it was.

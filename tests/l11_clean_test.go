@@ -1187,8 +1187,8 @@ func TestRoomArgumentsStay(t *testing.T) {
 	}
 }
 
-// One list at several places of an argument: the answer has one for each, where it is the disk as it was, too.
-func TestListsOfRoomComeApart(t *testing.T) {
+// oneList has one list at all sectors, and at all that wait for them, another one at both maps, and a third one at these addresses, which are open.
+func oneList(open ...int) impl.Disk {
 	one, blob := slowPackBytes(packOf(0, 1, hasNoise(1, 1), hasNoise(4, 4), hasNoise(6, 6))), hasNoise(0, 9).Blob
 	d := newDisk(7, 9)
 	for at := range d.Raw.Sectors {
@@ -1197,9 +1197,15 @@ func TestListsOfRoomComeApart(t *testing.T) {
 	}
 	d.Map.L[1], d.Map.L[4], d.Map.L[6] = in(3, 0), in(3, 1), in(3, 2)
 	d.Saved = d.Map
-	crowded := clonedDisk(d)
-	crowded.Open = packOf(0, 0, impl.Item{Addr: 0, Blob: blob}, impl.Item{Addr: 2, Blob: blob}, impl.Item{Addr: 3, Blob: blob})
-	crowded.Raw, crowded.Saved = d.Raw, crowded.Map
+	for _, addr := range open {
+		d.Open.Items = append(d.Open.Items, impl.Item{Addr: addr, Blob: blob})
+	}
+	return d
+}
+
+// One list at several places of an argument: the answer has one for each, where it is the disk as it was, too.
+func TestListsOfRoomComeApart(t *testing.T) {
+	d, crowded := oneList(), oneList(0, 2, 3)
 	wedged := crowded
 	wedged.Epoch, wedged.Chain = impl.MaxEpoch, []int{2, 4, 5, 6, 7, 8}
 	saved := wedged
@@ -1231,19 +1237,6 @@ func TestListsOfRoomComeApart(t *testing.T) {
 	}
 }
 
-// Nothing is kept: answers of one call are not those of another one, behind a refusal, too.
 func TestRoomKeepsNothing(t *testing.T) {
-	for range 2 {
-		for _, d := range []impl.Disk{trio(), lone(), wedgedLone(), spoiltTrio(), plainDisk()} {
-			for name, do := range roomDoes() {
-				want := clonedDisk(do(d))
-				spoilDisk(do(d))
-				do(impl.Disk{})
-				do(newDisk(7, 9))
-				if got := do(d); !sameDisk(got, want) {
-					t.Fatalf("%s again: %s, want %s", name, diskText(got), diskText(want))
-				}
-			}
-		}
-	}
+	keepNothing(t, roomDoes(), trio(), lone(), wedgedLone(), spoiltTrio(), plainDisk())
 }
